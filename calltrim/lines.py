@@ -1,7 +1,5 @@
 """Single lines of a code: where they go on, their texts, and their targets when lines move."""
 
-from calltrim.kinds import is_number_below
-
 EVENT_KINDS = ("do", "ask")
 END_KINDS = ("go", "back")
 MOST_FIGURES = 12

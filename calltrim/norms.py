@@ -1,60 +1,55 @@
-"""Norms and lengths: the least that a run comes to until it returns."""
+"""Norms and lengths: the least that a run comes to until it returns.
+
+Each place or number has choices, tuples (cost, parts): what is met at once, and all that is run behind it.
+"""
 
 from calltrim.lines import is_event_line, leads_of, silent_row
 
 
-def cost_at(lines, place, found, silent):
-    """The least cost of a place by what is found so far; None if that does not tell."""
-    line = lines[place]
-    if is_event_line(line):
-        known = [found[lead] for lead in leads_of(line, place) if found[lead] is not None]
-        return 1 + min(known) if known else None
-    parts = [found[part] for part in silent_row(line, place)]
-    return None if None in parts else silent + sum(parts)
+def least_choice(choices, found):
+    """The least cost of the choices by what is found so far; None if that does not tell."""
+    sums = []
+    for cost, parts in choices:
+        known = [found[part] for part in parts]
+        if None not in known:
+            sums.append(cost + sum(known))
+    return min(sums) if sums else None
 
 
-def least_costs(lines, silent):
-    """The least cost of each place, None of an endless one: events cost 1, other lines silent."""
-    found = [None] * len(lines)
+def least_costs(choices):
+    """The least cost of each place, None of an endless one; choices has the choices of each."""
+    found = [None] * len(choices)
     better = True
     while better:
         better = False
         # most lines go on to the next one, so costs spread fastest from the end
-        for place in reversed(range(len(lines))):
-            cost = cost_at(lines, place, found, silent)
+        for place in reversed(range(len(choices))):
+            cost = least_choice(choices[place], found)
             if cost is not None and (found[place] is None or cost < found[place]):
                 found[place] = cost
                 better = True
     return tuple(found)
 
 
+def line_choices(line, place, silent):
+    """The choices of a line if a line that is no event costs silent."""
+    if is_event_line(line):
+        return [(1, (lead,)) for lead in leads_of(line, place)]
+    return [(silent, silent_row(line, place))]
+
+
+def line_costs(lines, silent):
+    return least_costs([line_choices(lines[place], place, silent) for place in range(len(lines))])
+
+
 def norms_of(lines):
-    return least_costs(lines, 0)
+    return line_costs(lines, 0)
 
 
 def lengths_of(lines):
-    return least_costs(lines, 1)
-
-
-def rule_cost(rows, found):
-    """The norm of a number with these rows by what is found so far; None if that does not tell."""
-    sums = []
-    for row in rows:
-        parts = [found[number] for number in row]
-        if None not in parts:
-            sums.append(1 + sum(parts))
-    return min(sums) if sums else None
+    return line_costs(lines, 1)
 
 
 def rule_norms(rules):
     """The norm of the number of each rule, None of an endless one."""
-    found = [None] * len(rules)
-    better = True
-    while better:
-        better = False
-        for number in reversed(range(len(rules))):
-            cost = rule_cost(rules[number][1], found)
-            if cost is not None and (found[number] is None or cost < found[number]):
-                found[number] = cost
-                better = True
-    return tuple(found)
+    return least_costs([[(1, row) for row in rows] for _, rows in rules])
