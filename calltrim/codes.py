@@ -28,26 +28,49 @@ def is_targets(value, many):
     return is_tuple_below(value, many) and 1 <= len(value) <= MOST_TARGETS
 
 
-def checked_lines(lines):
-    if not isinstance(lines, (list, tuple)) or not 1 <= len(lines) <= MOST_LINES:
-        raise InvalidCode(lines)
+def first_wrong(lines):
+    """The first place whose member is no line that may stand there; None if there is none."""
     last = len(lines) - 1
     for place in range(len(lines)):
         line = lines[place]
         if not is_line(line, len(lines)) or (place == last and not ends_well(line)):
-            raise InvalidLine(line)
+            return place
+    return None
+
+
+def first_too_long(norms, lengths):
+    """The first place whose norm or length is too great; None if there is none."""
+    for place in range(len(norms)):
+        if norms[place] > MOST_NORM or lengths[place] > MOST_LENGTH:
+            return place
+    return None
+
+
+def is_lines(value):
+    """Whether value is a tuple of lines that Code does not refuse."""
+    if not isinstance(value, tuple) or not 1 <= len(value) <= MOST_LINES or first_wrong(value) is not None:
+        return False
+    norms = norms_of(value)
+    return None not in norms and first_too_long(norms, lengths_of(value)) is None
+
+
+def checked_lines(lines):
+    if not isinstance(lines, (list, tuple)) or not 1 <= len(lines) <= MOST_LINES:
+        raise InvalidCode(lines)
+    wrong = first_wrong(lines)
+    if wrong is not None:
+        raise InvalidLine(lines[wrong])
     return tuple(lines)
 
 
 def checked_norms(lines):
     norms = norms_of(lines)
-    lengths = lengths_of(lines)
     for place in range(len(lines)):
         if norms[place] is None:
             raise Endless(place)
-    for place in range(len(lines)):
-        if norms[place] > MOST_NORM or lengths[place] > MOST_LENGTH:
-            raise TooLong(place)
+    wrong = first_too_long(norms, lengths_of(lines))
+    if wrong is not None:
+        raise TooLong(wrong)
     return norms
 
 

@@ -4,10 +4,10 @@ from calltrim.codes import Code, MOST_LINES
 from calltrim.errors import InvalidForm, InvalidNumber, TooLarge
 from calltrim.kinds import is_number_below
 from calltrim.norms import rule_norms
-from calltrim.primes import Primes
+from calltrim.primes import formed
 from calltrim.rules import well_made
 from calltrim.runs import check_moves, check_row
-from calltrim.systems import row_of, system_of, system_of_rules, told
+from calltrim.systems import system_of_rules, told
 
 
 def is_form(value):
@@ -34,9 +34,8 @@ def form_run(form, moves):
 
 def prime_form(code, row):
     check_row(code, row)
-    system, spread = system_of(code)
-    numbers = row_of(spread, row)
-    return Primes(system, numbers).form_of(numbers)
+    form, _ = formed(code, row)
+    return form
 
 
 def least_events(code, place):

@@ -28,17 +28,45 @@ def silent_row(line, place):
     return ()
 
 
+def followers_of(line, place):
+    """The places that follow the line at place."""
+    return leads_of(line, place) if is_event_line(line) else silent_row(line, place)
+
+
+def places_from(lines, starts):
+    """The starts and all places that follow these, as the keys of a dict."""
+    found = {}
+    fresh = list(starts)
+    while fresh:
+        place = fresh.pop()
+        if place not in found:
+            found[place] = True
+            fresh.extend(followers_of(lines[place], place))
+    return found
+
+
+def targets_of(line):
+    if line[0] == "ask":
+        return line[2]
+    return (line[1],) if line[0] in ("go", "call") else ()
+
+
+def led_line(line, at):
+    """The line with each of its targets replaced by what at has for it."""
+    if line[0] == "ask":
+        return ("ask", line[1], tuple([at[target] for target in line[2]]))
+    if line[0] in ("go", "call"):
+        return (line[0], at[line[1]])
+    return line
+
+
 def moved_target(target, least, by):
     return target + by if target >= least else target
 
 
 def moved_line(line, least, by):
     """The line with all its targets from least on changed by the integer by."""
-    if line[0] == "ask":
-        return ("ask", line[1], tuple([moved_target(target, least, by) for target in line[2]]))
-    if line[0] in ("go", "call"):
-        return (line[0], moved_target(line[1], least, by))
-    return line
+    return led_line(line, {target: moved_target(target, least, by) for target in targets_of(line)})
 
 
 def line_text(line):

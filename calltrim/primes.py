@@ -6,7 +6,7 @@ begins with a number again, so every row of numbers is a row of prime parts.
 
 from calltrim.pairs import Pairs
 from calltrim.striking import struck_out
-from calltrim.systems import least_answer, spread_row
+from calltrim.systems import least_answer, row_of, spread_row, system_of
 
 
 def reached_numbers(system, row):
@@ -126,8 +126,8 @@ class Primes:
     def kind_rows(self, number, kinds):
         return tuple([tuple([kinds[part] for part in row]) for row in self.rows[number]])
 
-    def form_of(self, row):
-        """The prime form of a row of numbers."""
+    def form_and_table(self, row):
+        """The prime form of a row of numbers, and a table for it of all numbers that the row comes to."""
         order = []
         places = {}
         start = self.placed_row(self.divided(row), places, order)
@@ -136,7 +136,9 @@ class Primes:
             number = order[len(rules)]
             rows = tuple([self.placed_row(parts, places, order) for parts in self.rows[number]])
             rules.append((self.system.events[number][0], rows))
-        return start, tuple(rules)
+        met = sorted(reached_numbers(self.system, row))
+        table = tuple([(number, self.placed_row(self.parts[number], places, order)) for number in met])
+        return (start, tuple(rules)), table
 
     def placed_row(self, parts, places, order):
         """The row of form numbers of prime parts; a kind gets the next number when it comes first."""
@@ -157,3 +159,17 @@ def numbered_signs(signs):
 
 def count_kinds(kinds):
     return len(set(list(kinds.values())))
+
+
+def formed(code, row):
+    """The prime form of a row of places, and a table for it of all event places that the row comes to."""
+    system, spread = system_of(code)
+    numbers = row_of(spread, row)
+    return Primes(system, numbers).form_and_table(numbers)
+
+
+def signs_of(code):
+    """A row for each place, equal ones exactly for places that do the same; () for places of norm 0."""
+    system, spread = system_of(code)
+    primes = Primes(system, spread_row(spread))
+    return [tuple([primes.kinds[part] for part in primes.divided(row)]) for row in spread]
