@@ -6,7 +6,7 @@ from calltrim.kinds import is_number_below
 from calltrim.norms import rule_norms
 from calltrim.primes import formed
 from calltrim.rules import well_made
-from calltrim.runs import check_moves, check_row
+from calltrim.runs import check_moves, check_place, check_row
 from calltrim.systems import system_of_rules, told
 
 
@@ -39,8 +39,7 @@ def prime_form(code, row):
 
 
 def least_events(code, place):
-    if not is_number_below(place, len(code)):
-        raise InvalidNumber(place)
+    check_place(code, place)
     return len(prime_form(code, (place,))[1])
 
 

@@ -74,8 +74,11 @@ def laid_out(code, entries, names):
     leads = {place: at[names[place]] for place in names if names[place] in at}
     lines = []
     for row in rows:
-        lines.extend([led_line(code.lines[place], leads) for place in row])
         after = nexts[row[-1]]
+        # a row that leads to no other back line than its own can be put in
+        end = at[row[-1]] + 1 if after == END else at[END]
+        own = {place: end if names[place] == END else leads[place] for place in leads}
+        lines.extend([led_line(code.lines[place], own) for place in row])
         lines.append(("back",) if after == END else ("go", at[after]))
     if stands_alone(nexts):
         lines.append(("back",))

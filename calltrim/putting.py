@@ -3,7 +3,7 @@
 from calltrim.codes import Code, is_lines
 from calltrim.errors import Undefined
 from calltrim.lines import ends_well, led_line, targets_of
-from calltrim.stacks import check_place
+from calltrim.runs import check_place
 from calltrim.tidying import check_entries
 
 

@@ -1,7 +1,7 @@
 """Rows of places and their runs."""
 
-from calltrim.errors import InvalidMoves, InvalidRow
-from calltrim.kinds import is_number, is_tuple_below
+from calltrim.errors import InvalidMoves, InvalidNumber, InvalidRow
+from calltrim.kinds import is_number, is_number_below, is_tuple_below
 from calltrim.lines import is_event_line, silent_row
 from calltrim.systems import least_moves, row_of, system_of, told
 
@@ -14,6 +14,11 @@ def is_row(code, value):
 
 def is_moves(value):
     return isinstance(value, tuple) and all([is_number(member) for member in value])
+
+
+def check_place(code, place):
+    if not is_number_below(place, len(code)):
+        raise InvalidNumber(place)
 
 
 def check_row(code, row):

@@ -1,15 +1,9 @@
 """Stack runs, and how deep the stack can grow, with papers."""
 
-from calltrim.errors import InvalidNumber
 from calltrim.kinds import is_number, is_number_below
 from calltrim.lines import is_event_line, places_from
-from calltrim.runs import check_moves, is_moves
+from calltrim.runs import check_moves, check_place, is_moves
 from calltrim.walks import Walk, pushes_at, steps_at, way_by
-
-
-def check_place(code, place):
-    if not is_number_below(place, len(code)):
-        raise InvalidNumber(place)
 
 
 def stack_run(code, place, moves):
@@ -93,13 +87,9 @@ def are_bounds(code, value):
     """Whether value has an integer for each line that is -1 or bounds the stack from there on."""
     if not isinstance(value, tuple) or len(value) != len(code):
         return False
-    if not all([is_number(bound) or is_minus_one(bound) for bound in value]):
+    if not all([is_number(bound) or bound == -1 for bound in value]):
         return False
     return all([value[place] == -1 or bounds_at(code, value, place) for place in range(len(code))])
-
-
-def is_minus_one(value):
-    return isinstance(value, int) and value == -1
 
 
 def bounds_at(code, bounds, place):
@@ -112,9 +102,9 @@ def shows_growth(code, place, moves, more):
         return False
     walk = Walk(code, place)
     walk.run_by(moves)
-    at, stack, met = walk.place, list(walk.stack), len(walk.sizes)
+    at, many, met = walk.place, len(walk.stack), len(walk.sizes)
     walk.run_by(more)
-    # a stack that never had fewer places still begins as it did
-    if at is None or walk.place != at or len(walk.stack) <= len(stack):
+    # a stack that never had fewer places still begins as it did, and that of a run that has returned is empty
+    if walk.place != at or len(walk.stack) <= many:
         return False
-    return min(walk.sizes[met:]) >= len(stack)
+    return min(walk.sizes[met:]) >= many

@@ -1,10 +1,11 @@
 """Skimmed codes, which have no needless lines, and shared ones, in which no two lines do the same."""
 
-from calltrim.errors import InvalidEntries, InvalidNumber
-from calltrim.kinds import is_number_below, is_tuple_below
+from calltrim.errors import InvalidEntries
+from calltrim.kinds import is_tuple_below
 from calltrim.layouts import END, kept_nexts, laid_out, least_lines
 from calltrim.lines import places_from, targets_of
 from calltrim.primes import signs_of
+from calltrim.runs import check_place
 
 MOST_ENTRIES = 4
 
@@ -24,8 +25,7 @@ def reached(code, entries=(0,)):
 
 
 def landed(code, place):
-    if not is_number_below(place, len(code)):
-        raise InvalidNumber(place)
+    check_place(code, place)
     while code.lines[place][0] == "go":
         place = code.lines[place][1]
     return place

@@ -70,6 +70,8 @@ class PuttingTest(unittest.TestCase):
             ("entry inside", CODE, (0, 4), 1), ("entry inside", CODE, (0, 6), 1), ("entry inside", CODE, (3,), 1),
             ("runs in", Code([DO, ("call", 4), BACK, DO, ("ask", "t", (6,)), DOB, BACK]), (0,), 1),
             ("runs in", Code([("call", 1), DO, BACK]), (0,), 0),
+            ("runs in", Code([DO, DOB, BACK, ("call", 1), BACK]), (0, 3), 3),
+            ("runs in", Code([("ask", "t", (0,)), DOB, BACK, ("call", 1), BACK]), (0, 3), 3),
             ("leads out", CODE.turn(3, ("ask", "t", (2, 4))), (0,), 1),
             ("leads out", CODE.turn(5, ("go", 2)), (0,), 1),
             ("leads out", CODE.turn(5, ("go", 0)), (0,), 1),

@@ -239,7 +239,7 @@ class SharedTest(unittest.TestCase):
     def test_random_codes(self):
         source = seeded(93)
         rings = shorter = 0
-        for turn in range(300):
+        for turn in range(160):
             code = any_code(source, turn)
             entries = random_entries(source, code)
             self.assertIs(is_shared(code, entries), not share_faults(code, entries))
@@ -251,8 +251,8 @@ class SharedTest(unittest.TestCase):
             self.assertLessEqual(len(self.assert_shared(one, there)[0]), len(one))
             rings += len(rings_of(one))
             shorter += len(one) < len(new)
-        self.assertGreater(rings, 20)
-        self.assertGreater(shorter, 20)
+        self.assertGreater(rings, 10)
+        self.assertGreater(shorter, 10)
 
     def test_near_the_bounds(self):
         source = seeded(94)
