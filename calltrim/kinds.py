@@ -13,3 +13,8 @@ def is_number_below(value, many):
 def is_tuple_below(value, many):
     """Whether value is a tuple of numbers that are all below many."""
     return isinstance(value, tuple) and all([is_number_below(member, many) for member in value])
+
+
+def is_ascending(members):
+    """Whether each member is more than the one ahead of it; all of them must be such as can be compared."""
+    return all([members[at] < members[at + 1] for at in range(len(members) - 1)])

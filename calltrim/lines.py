@@ -1,5 +1,7 @@
 """Single lines of a code: where they go on, their texts, and their targets when lines move."""
 
+from calltrim.closures import closure
+
 EVENT_KINDS = ("do", "ask")
 END_KINDS = ("go", "back")
 MOST_FIGURES = 12
@@ -35,14 +37,7 @@ def followers_of(line, place):
 
 def places_from(lines, starts):
     """The starts and all places that follow these, as the keys of a dict."""
-    found = {}
-    fresh = list(starts)
-    while fresh:
-        place = fresh.pop()
-        if place not in found:
-            found[place] = True
-            fresh.extend(followers_of(lines[place], place))
-    return found
+    return closure(starts, {place: followers_of(lines[place], place) for place in range(len(lines))})
 
 
 def targets_of(line):

@@ -91,13 +91,18 @@ class FormTest(unittest.TestCase):
                 self.assertGreater(len(re.findall(rf"\b{name}\b", text)), 1, f"{path.name} does not use {name}")
 
     def test_no_two_files_import_from_each_other(self):
-        def reached(name, ahead):
+        modules = {path.stem: {module.removeprefix("calltrim.") for module in imported_names(path).values()}
+                   for path in FILES}
+        done = set()
+
+        def reach(name, ahead):
             self.assertNotIn(name, ahead)
-            for module in set(imported_names(FOLDER / f"{name}.py").values()):
-                reached(module.removeprefix("calltrim."), ahead + [name])
+            for module in sorted(modules[name] - done):
+                reach(module, ahead + [name])
+            done.add(name)
 
         for path in FILES:
-            reached(path.stem, [])
+            reach(path.stem, [])
 
     def test_names(self):
         for path in FILES:
