@@ -2,7 +2,7 @@
 
 from calltrim.forms import is_form
 from calltrim.joints import reaches_first
-from calltrim.levels import add_moves, moves_to_level
+from calltrim.levels import level_paper
 from calltrim.partings import parting_moves
 from calltrim.primes import Primes, formed
 from calltrim.runs import check_row, is_moves, is_row
@@ -24,16 +24,8 @@ def dense_moves(primes):
     dense = []
     for number in primes.numbers:
         levels = range(primes.system.norms[number] - 1, 0, -1)
-        dense.append(tuple([level_moves(primes, number, level, known) for level in levels]))
+        dense.append(tuple([level_paper(primes, (number,), level, known) for level in levels]))
     return tuple(dense)
-
-
-def level_moves(primes, number, level, known):
-    add_moves(primes, (number, level), known)
-    moves = known[(number, level)]
-    left = row_left(primes.system, (number,), moves)
-    parted = parting_moves(primes.pairs, primes.left[number][level], left)
-    return moves_to_level(primes.system, (number,), level), moves, parted
 
 
 def apart_moves(primes):
@@ -67,14 +59,14 @@ def shows_prime(system, number, value):
     many = system.norms[number] - 1
     if not isinstance(value, tuple) or len(value) != many:
         return False
-    return all([shows_no_joint(system, number, many - at, value[at]) for at in range(many)])
+    return all([shows_no_joint(system, (number,), many - at, value[at]) for at in range(many)])
 
 
-def shows_no_joint(system, number, level, value):
+def shows_no_joint(system, row, level, value):
+    """Whether value shows that a row of numbers has no joint at the level."""
     if not isinstance(value, tuple) or len(value) != 3 or not all([is_moves(moves) for moves in value]):
         return False
     one, other, parted = value
-    row = (number,)
     if not reaches_first(system, row, one, level) or not reaches_first(system, row, other, level):
         return False
     return told(system, row_left(system, row, one), parted) != told(system, row_left(system, row, other), parted)

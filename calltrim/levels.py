@@ -4,7 +4,8 @@ Of the pairs (number, level) that are struck out of Primes each has another one 
 one of its answers leaves at once.
 """
 
-from calltrim.systems import least_moves, level_of
+from calltrim.partings import parting_moves
+from calltrim.systems import least_moves, level_of, row_left
 
 
 def moves_to_level(system, row, level):
@@ -46,3 +47,16 @@ def add_moves(primes, pair, known):
             known[struck] = own_moves(primes, struck)
         else:
             known[struck] = moves_by_reason(primes, struck, reason, known[reason])
+
+
+def level_paper(primes, row, level, known):
+    """For a level at which a row of numbers has no joint two rows of moves that first reach it, and what parts them.
+
+    The third row of moves parts what the first two leave; known keeps what is found, by pairs (number, level).
+    """
+    _, (number, inner) = primes.cut_row(row, level)
+    add_moves(primes, (number, inner), known)
+    one = moves_to_level(primes.system, row, level)
+    other = moves_to_level(primes.system, row, level - inner + primes.system.norms[number]) + known[(number, inner)]
+    left, right = row_left(primes.system, row, one), row_left(primes.system, row, other)
+    return one, other, parting_moves(primes.pairs, left, right)

@@ -3,6 +3,7 @@
 Each place or number has choices, tuples (cost, parts): what is met at once, and all that is run behind it.
 """
 
+from calltrim.closures import closure
 from calltrim.lines import is_event_line, leads_of, silent_row
 
 
@@ -53,3 +54,10 @@ def lengths_of(lines):
 def rule_norms(rules):
     """The norm of the number of each rule, None of an endless one."""
     return least_costs([[(1, row) for row in rows] for _, rows in rules])
+
+
+def norms_met(rules, row):
+    """The norms of all numbers that a row of numbers can come to; None for others, which may be many."""
+    numbers = range(len(rules))
+    met = closure(row, {number: [part for coming in rules[number][1] for part in coming] for number in numbers})
+    return least_costs([[(1, coming) for coming in rules[number][1]] if number in met else [] for number in numbers])

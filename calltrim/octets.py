@@ -30,6 +30,11 @@ def addresses_of(lines):
     return addresses
 
 
+def end_of(lines):
+    """The number of the octet behind all lines."""
+    return 1 + sum([SPANS[KINDS.index(line[0])] for line in lines])
+
+
 def line_octets(line, addresses, words, area):
     """The octets of a line; area is a row of places in which the targets of ask lines stand."""
     operation = KINDS.index(line[0])
