@@ -1,6 +1,6 @@
 """Questions, claims and papers as plainly as the document says them, to compare with, and random questions."""
 
-from calltrim.forms import is_form
+from calltrim.forms import is_form, prime_form
 from calltrim.plans import Plan
 from cell_reference import cells_paper_as_written
 from paperwork import (
@@ -183,8 +183,9 @@ def code_questions(source, code):
 
     one, other, row = random_row(source, code, 6), random_row(source, code, 6), random_row(source, code, 6)
     alone = (place(),)
+    like = [at for at in range(len(code)) if prime_form(code, (at,)) == prime_form(code, alone)]
     return [
-        ("same", one, other), ("same", row, row), ("form", one),
+        ("same", one, other), ("same", (*row, *alone)[-6:], (*row, source.choice(like))[-6:]), ("form", one),
         ("joint", row, source.randrange(norm_of(code, row) + 1)),
         ("joint", alone, source.randrange(norm_of(code, alone) + 1)), ("events", place()), ("depth", place()),
         ("reached", tuple(place() for _ in range(source.randrange(1, 5))), place())]

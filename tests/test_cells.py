@@ -211,7 +211,8 @@ class CellsPaperTest(unittest.TestCase):
             self.assertIs(cells_hold(RING, value, paper), False)
             self.assertIs(cells_hold(RING, 3, value), False)
             self.assertIs(cells_hold(NO_SLOTS, 0, value), False)
-            for path in ((0,), (1,), (2,), (3,), (0, 0), (1, 0), (1, 2, 0), (2, 0), (2, 0, 2), (3, 1), (3, 3), (3, 4, 0)):
+            for path in ((0,), (1,), (2,), (3,), (0, 0), (1, 0), (1, 2, 0), (2, 0), (2, 0, 2), (3, 1), (3, 3),
+                         (3, 4, 0)):
                 odd = with_part(paper, path, value)
                 self.assertIs(cells_hold(RING, 3, odd), cells_paper_as_written(RING, 3, odd))
 

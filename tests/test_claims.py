@@ -196,7 +196,7 @@ class AnswersTest(unittest.TestCase):
                 word = self.assert_answer(plan, question)
                 seen[word] = seen.get(word, 0) + 1
         self.assertEqual(len(seen), 15)
-        self.assertGreater(min(seen.values()), 20)
+        self.assertGreater(min(seen.values()), 10)
 
     def test_near_the_bounds(self):
         source = seeded(273)

@@ -398,6 +398,13 @@ class SameStateTest(unittest.TestCase):
         one, two = ("depth", 0), ("events", 1)
         desk = led(LOOP, ("watch", one), ("watch", two), ("turn", 1, ("do", "b")), ("undo",))
         self.assertIs(same_state(desk, led(LOOP, ("watch", one), ("watch", two), ("put", 4, BACK), ("undo",))), True)
+        one_code, other_code = led(LOOP, ("turn", 1, ("do", "b"))), led(LOOP, ("turn", 1, ("do", "c")))
+        self.assertIs(same_state(one_code, other_code), False)
+        # both questions are none now, so nothing is kept of them
+        one_question = led(LOOP, ("watch", ("depth", 3)), ("take", 1))
+        other_question = led(LOOP, ("watch", ("events", 3)), ("take", 1))
+        self.assertEqual(one_question.report(), other_question.report())
+        self.assertIs(same_state(one_question, other_question), False)
         for deeds in [
                 # another code; another order; a question less; one deed more; one less that can be redone
                 (("watch", one), ("watch", two), ("turn", 1, ("do", "c"))),

@@ -84,6 +84,12 @@ class PapersTest(unittest.TestCase):
                 seen[claim[0]] = seen.get(claim[0], 0) + 1
         self.assertGreater(min(seen.values()), 50)
 
+    def test_other_rows_that_do_the_same(self):
+        code = Code([DO, ("go", 5), ("ask", "t", (0,)), ("do", "a"), ("call", 5), ("do", "b"), BACK])
+        for left, right in (((0, 5), (3,)), ((4, 0), (5, 1, 0)), ((3,), (0, 1)), ((6,), ())):
+            for question in (("same", left, right), ("same", right, left)):
+                self.assertEqual(self.assert_paper(code, question)[0], question)
+
     def test_questions_by_hand(self):
         for question in CODE_QUESTIONS:
             self.assert_paper(CODE, question)

@@ -1,6 +1,7 @@
 import unittest
 
 from calltrim.errors import Endless, InvalidLine, InvalidMoves, InvalidNumber, InvalidPlan, TooLong, TrimError, Unset
+from calltrim.planlines import is_plan_line
 from calltrim.plans import Plan, plan_run
 from mutants import ANY_VALUES
 from plan_reference import line_of, plan_told, reads_of, writes_of
@@ -133,6 +134,13 @@ class PlanTest(unittest.TestCase):
             procedures = [(0, (do("a", (0,), (1,)), BACK)), (1, (do("b", (), (2,)), line, BACK))]
             error = caught(self, InvalidLine, Plan, 2, procedures)
             self.assertIs(error.line, line)
+
+    def test_plan_lines(self):
+        for line in (do("a", (2, 1, 0), (2,)), ("ask", "t", (), (0, 4)), ("go", 4), ("call", 1), BACK):
+            self.assertIs(is_plan_line(line, 3, 5, 2), True)
+        for line in [*ANY_VALUES, ["back"], "back", ("back", 0), ("stop",), ("backs",), ("do",), (BACK,), ("go", 5),
+                     ("call", 2), do("a", (3,)), ("ask", "t", (), (5,))]:
+            self.assertIs(is_plan_line(line, 3, 5, 2), line == BACK and type(line) is tuple)
 
     def test_the_first_wrong_line(self):
         one, two = ("go", 9), ("call", 9)
